@@ -21,41 +21,67 @@ const (
 	alone    = 11
 )
 
-// expr reads an expression with operators of at least that level; with any number of catch ahead where all there is may stand.
-func (r *reader) expr(level int) *api.Node {
-	var ahead []string
-next:
-	if level <= whole && r.word("catch") {
-		ahead = append(ahead, "catch")
-		goto next
-	}
-	r.in()
-	n := r.chain(level)
-	r.out()
-	return under(ahead, n)
+// chain is an expression that is being read: operands with operators between.
+type chain struct {
+	*reader
+	level  int       // the level that its operators have at least
+	caught []string  // a catch for each one that stands ahead
+	ahead  []string  // what stands ahead of its first operand
+	stood  bool      // what was read of that operand stood in ( )
+	left   *api.Node // what was read, with all operators so far
+	has    int       // the level of that
 }
 
-// chain reads operands with operators of at least that level between.
-func (r *reader) chain(level int) *api.Node {
-	n, has := r.operand()
-next:
-	op, own, right := r.joint(max(level, plain), has)
-	if own == 0 {
-		return n
+// expr makes a step that reads an expression with operators of at least that level.
+func (r *reader) expr(level int) func() {
+	return func() {
+		c := &chain{reader: r, level: level, has: alone}
+		c.begin()
 	}
-	n, has = two(op, n, r.expr(right)), own
-	goto next
 }
 
-// joint reads an operator of at least that level whose left operand may be what has the level has, and answers its own level and that of its right operand; 0 if none is next.
-func (r *reader) joint(level, has int) (op string, own, right int) {
-	op = r.operator()
-	own = ops.Binary(op)
-	if own < level || has < ops.Left(op) {
-		return "", 0, 0
+// begin reads what stands ahead of the first operand: any number of catch, where all there is may stand, and of prefixes.
+func (c *chain) begin() {
+again:
+	if c.level <= whole && c.word("catch") {
+		c.caught = append(c.caught, "catch")
+		goto again
 	}
-	r.at++
-	return op, own, ops.Right(op)
+sign:
+	if op := c.operator(); ops.Prefix(op) != 0 {
+		c.take()
+		c.ahead, c.has = append(c.ahead, op), prefixed
+		goto sign
+	}
+	// What stood in ( ) may be followed whatever it is.
+	c.stood = c.sees("(")
+	c.plan(c.primary, c.followed)
+}
+
+// followed reads what follows the operand, again and again, and then goes on with operators.
+func (c *chain) followed() {
+	if next := c.follows(); next != nil {
+		c.stood = false
+		c.plan(next, c.followed)
+		return
+	}
+	c.left = under(c.ahead, c.n)
+	c.joined()
+}
+
+// joined reads an operator behind what was read, and has its right operand read; if none that may stand there is next, the expression ends.
+func (c *chain) joined() {
+	op := c.operator()
+	own := ops.Binary(op)
+	if own < max(c.level, plain) || c.has < ops.Left(op) {
+		c.n = under(c.caught, c.left)
+		return
+	}
+	c.take()
+	c.plan(c.expr(ops.Right(op)), func() {
+		c.left, c.has = two(op, c.left, c.n), own
+		c.joined()
+	})
 }
 
 // operator is the sign or word that is next; "" if what is next is neither.
@@ -67,39 +93,19 @@ func (r *reader) operator() string {
 	return ""
 }
 
-// operand reads what an operator may stand beside, and answers its level too.
-func (r *reader) operand() (*api.Node, int) {
-	var ahead []string
-	level := alone
-next:
-	if op := r.operator(); ops.Prefix(op) != 0 {
-		r.at++
-		ahead, level = append(ahead, op), prefixed
-		goto next
-	}
-	// What stood in ( ) may be followed whatever it is.
-	stood := r.sees("(")
-	n := r.primary()
-	return under(ahead, r.followed(n, stood)), level
-}
-
-// followed reads what follows n, again and again; stood tells whether n stood in ( ).
-func (r *reader) followed(n *api.Node, stood bool) *api.Node {
-next:
+// follows is what reads what follows the operand, as far as it was read; nil if nothing does.
+func (c *chain) follows() func() {
 	switch {
-	case !stood && !bare(n):
-		return n
-	case r.sees("("):
-		n = r.box(&api.Node{Kind: api.NCall, L: []api.Node{*n}}, "(", r.any)
-	case r.sees("#"):
-		n = r.changed(n)
-	case (stood || n.Kind == api.NLit) && r.sign(":"):
-		n = &api.Node{Kind: api.NRemote, L: []api.Node{*n, *r.called()}}
-	default:
-		return n
+	case !c.stood && !bare(c.n):
+		return nil
+	case c.sees("("):
+		return c.call
+	case c.sees("#"):
+		return c.changed
+	case c.sees(":") && (c.stood || c.n.Kind == api.NLit):
+		return c.remote
 	}
-	stood = false
-	goto next
+	return nil
 }
 
 // bare tells whether things may follow n as it is.
@@ -113,12 +119,61 @@ func bare(n *api.Node) bool {
 	return false
 }
 
-// called reads what stands behind the : of a module.
-func (r *reader) called() *api.Node {
-	if r.sees("(") {
-		return r.within()
+// call reads what is handed to what was read.
+func (r *reader) call() {
+	n := &api.Node{Kind: api.NCall, L: []api.Node{*r.n}}
+	r.plan(r.box(n, "(", r.expr(whole)))
+}
+
+// changed reads what stands behind what was read: other pairs of a map or of a record, or which field is asked.
+func (r *reader) changed() {
+	n := &api.Node{Kind: api.NMapUp, L: []api.Node{*r.n}}
+	must(r.sign("#"))
+	if r.sees("{") {
+		r.plan(r.box(n, "{", r.pair))
+		return
 	}
-	return &api.Node{Kind: api.NLit, Text: r.name()}
+	from := r.at
+	n.Kind, n.Text = api.NRecUp, r.name()
+	if r.sign(".") {
+		r.text(api.TAtom)
+		n.Kind, n.Text = api.NField, r.since(from)
+		r.n = n
+		return
+	}
+	r.plan(r.box(n, "{", r.expr(whole)))
+}
+
+// remote reads what stands behind a module.
+func (r *reader) remote() {
+	n := &api.Node{Kind: api.NRemote, L: []api.Node{*r.n}}
+	must(r.sign(":"))
+	r.plan(r.called, r.into(n))
+}
+
+// called reads a name, or an expression in ( ).
+func (r *reader) called() {
+	if r.sees("(") {
+		r.within()
+		return
+	}
+	r.n = &api.Node{Kind: api.NLit, Text: r.name()}
+}
+
+// perhaps makes a step that reads an expression of that level, and perhaps one of the signs and another such expression.
+func (r *reader) perhaps(level int, signs ...string) func() {
+	more := func() {
+		left := r.n
+		for _, between := range signs {
+			if r.sign(between) {
+				r.plan(r.expr(level), func() { r.n = two(between, left, r.n) })
+				return
+			}
+		}
+	}
+	return func() {
+		r.plan(r.expr(level), more)
+	}
 }
 
 // two is the operator op between a and b.

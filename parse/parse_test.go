@@ -72,7 +72,7 @@ func TestLevels(t *testing.T) {
 		{"catch a", "Uncatch(a)", ""}, {"catch a = b + c", "Uncatch(Op=(a Op+(b c)))", ""}, {"catch catch a", "Uncatch(Uncatch(a))", ""}, {"catch a, b", "Uncatch(a)", ",b"}, {"(catch a) + b", "Op+(Uncatch(a) b)", ""},
 		{"a + catch b", "", ""}, {"a = catch b", "", ""}, {"- catch a", "", ""}, {"catch", "", ""},
 		// What stands behind is left.
-		{"a b", "a", "b"}, {"a <- b", "a", "<-b"}, {"a => b", "a", "=>b"}, {"a)", "a", ")"}, {"a. ", "a", "."}, {"a.b", "a", ".b"}, {"a -> b", "a", "->b"}, {"a when b", "a", "whenb"}, {"a not b", "a", "notb"}, {"a %c", "a", "%c"}, {"a %c\n + b", "a", "%c+b"}, {"'+' 'and' b", "'+'", "'and'b"},
+		{"a b", "a", "b"}, {"a <- b", "a", "<-b"}, {"a => b", "a", "=>b"}, {"a)", "a", ")"}, {"a. ", "a", "."}, {"a.b", "a", ".b"}, {"a -> b", "a", "->b"}, {"a when b", "a", "whenb"}, {"a not b", "a", "notb"}, {"a %c", "a", "%c"}, {"'+' 'and' b", "'+'", "'and'b"},
 		// A sign without what must stand behind it.
 		{"a +", "", ""}, {"a + )", "", ""}, {"a + %c\n b", "", ""}, {"a + b *", "", ""}, {"-", "", ""}, {"not", "", ""}, {"* a", "", ""}, {"a and", "", ""}, {"a == ==", "", ""},
 		{"%c\n a", "", ""}, {"- %c\n a", "", ""}, {". ", "", ""}, {"", "", ""}, {"end", "", ""}, {"of", "", ""}, {")", "", ""}, {", a", "", ""}, {"%c", "", ""},
@@ -155,7 +155,6 @@ func TestFollows(t *testing.T) {
 		// Behind others nothing.
 		{"1(a)", "1", "(a)"}, {"1:a", "1", ":a"}, {"1.5#{}", "1.5", "#{}"}, {"$a(b)", "$a", "(b)"}, {`"a"(b)`, `"a"`, "(b)"}, {`"a":b`, `"a"`, ":b"}, {"{a}#r.f", "Tuple(a)", "#r.f"}, {"{a}(b)", "Tuple(a)", "(b)"}, {"[a](b)", "List(a)", "(b)"}, {"[a || b](c)", "Comp(a b)", "(c)"}, {"<<a>>(b)", "Bin(a)", "(b)"}, {"begin a end(b)", "Begin(Body(a))", "(b)"},
 		{"({a})#r.f", "Fieldr.f(Tuple(a))", ""}, {"(1)(a)", "Call(1 a)", ""}, {`("a")#{}`, `MapUp("a")`, ""}, {"([a])(b)(c)", "Call(Call(List(a) b) c)", ""}, {"(a + b)(c):d", "Call(Op+(a b) c)", ":d"}, {"(- a)#r{}", "RecUpr(Un-(a))", ""},
-		{"f %c\n (a)", "f", "%c(a)"}, {"f %c\n :a", "f", "%c:a"}, {"X %c\n #{}", "X", "%c#{}"},
 	})
 }
 
@@ -177,6 +176,49 @@ func TestNotes(t *testing.T) {
 		{"begin %a\n b, %c\n d %e\n end", `Begin(Body(Litb note"%a"() Litd note"%c"())) tail"%e"`, ""}, {"begin a %c\n, b end", "", ""}, {"begin\n\na,\n\nb,\nc,\n \t\n%d\n\ne, %f\n\ng end", `Begin(Body(a Litb blank() c Lite blank note"%d"() Litg note"%f"()))`, ""}, {"begin a\n\n, b end", "Begin(Body(a b))", ""}, {"begin\n\n%c\n\na end", `Begin(Body(Lita note"%c"()))`, ""},
 		{"f(fun() ->\n\n a,\n\n b end)", "Call(f Fun(Clause break(Args() Guard() Body(a Litb blank()))))", ""},
 	})
+}
+
+// A comment where no item begins is wrong, if what stands behind it goes on with what was read; else it is none of that.
+func TestComments(t *testing.T) {
+	for _, x := range []struct {
+		name string
+		face face
+		rows [][3]string
+	}{
+		{"Expr", exprFace(0), [][3]string{
+			{"f %x\n = \"s\"", "", ""}, {"a %c\n + b", "", ""}, {"a %c\n %d\n + b", "", ""}, {"a + b %c\n * c", "", ""}, {"a * b %c\n + c", "", ""}, {"a = b %c\n = c", "", ""}, {"a == b %c\n = c", "", ""}, {"catch a %c\n :: b", "", ""}, {"- a %c\n - b", "", ""}, {"a %c\n orelse b", "", ""}, {"a %c\n +", "", ""},
+			{"f %c\n (a)", "", ""}, {"f %c\n (", "", ""}, {"f(a) %c\n (b)", "", ""}, {"(1) %c\n (b)", "", ""}, {"a:b %c\n (c)", "", ""}, {"a %c\n : b", "", ""}, {"a %c\n : (b)", "", ""}, {"(f(a)) %c\n : b", "", ""}, {"X %c\n #{a => 1}", "", ""}, {"X %c\n #r{}", "", ""}, {"X %c\n #r.f", "", ""}, {"X#r.f %c\n #{}", "", ""}, {"X %c\n #", "", ""},
+			{"%c\n a", "", ""}, {"- %c\n a", "", ""}, {"- %c\n - a", "", ""}, {"catch %c\n a", "", ""}, {"catch %c\n catch a", "", ""}, {"a + %c\n b", "", ""}, {"a + %c\n - b", "", ""}, {"%c\n (a)", "", ""}, {"fun %c\n f/1", "", ""}, {"fun %c\n () -> a end", "", ""}, {"fun f %c\n / 1", "", ""}, {"# %c\n r{}", "", ""}, {"receive a -> b %c\n after %d\n c -> d end", "", ""},
+			{"a %c", "a", "%c"}, {"a %c\n %d", "a", "%c%d"}, {"a %c\n )", "a", "%c)"}, {"a %c\n b", "a", "%cb"}, {"a %c\n , b", "a", "%c,b"}, {"a %c\n ; b", "a", "%c;b"}, {"a %c\n -> b", "a", "%c->b"}, {"a %c\n => b", "a", "%c=>b"}, {"a %c\n <- b", "a", "%c<-b"}, {"a %c\n || b", "a", "%c||b"}, {"a %c\n not b", "a", "%cnotb"}, {"a %c\n {b}", "a", "%c{b}"}, {"a %c\n . ", "a", "%c."}, {"a %c\n when b", "a", "%cwhenb"},
+			{"a == b %c\n == c", "Op==(a b)", "%c==c"}, {"a = b < c %c\n < d", "Op=(a Op<(b c))", "%c<d"}, {"f(a) %c\n : b", "Call(f a)", "%c:b"}, {"a:b %c\n : c", "Remote(a b)", "%c:c"}, {"1 %c\n (a)", "1", "%c(a)"}, {"1 %c\n #{}", "1", "%c#{}"}, {"$a %c\n : b", "$a", "%c:b"}, {"{a} %c\n #r.f", "Tuple(a)", "%c#r.f"}, {"fun f/1 %c\n (a)", "Reff/1()", "%c(a)"}, {"begin a end %c\n : b", "Begin(Body(a))", "%c:b"},
+		}},
+		{"Expr at 9", exprFace(9), [][3]string{{"a %c\n + b", "a", "%c+b"}, {"a %c\n * b", "", ""}, {"a * b %c\n + c", "Op*(a b)", "%c+c"}, {"a %c\n (b)", "", ""}}},
+		{"Expr at 11", exprFace(11), [][3]string{{"a %c\n + b", "a", "%c+b"}, {"a %c\n * b", "a", "%c*b"}, {"a %c\n : b", "", ""}}},
+		{"Body", bodyFace(), [][3]string{
+			{"a %c\n , b", "", ""}, {"a, b %c\n , c", "", ""}, {"%a\n a %c\n , %b\n b", "", ""}, {"a %c\n ,", "", ""}, {"a, b %c\n + c", "", ""}, {"a, f %c\n (c)", "", ""}, {"a, %c\n", "", ""},
+			{"a, b %c\n ; c", "Body(a b)", "%c;c"}, {"a, b %c\n c", "Body(a b)", "%cc"}, {"a == b %c\n == c, d", "Body(Op==(a b))", "%c==c,d"}, {"%c\n a, %d\n b %e\n %f\n end", `Body(Lita note"%c"() Litb note"%d"())`, "%e%fend"},
+		}},
+		{"Clauses", clausesFace(), [][3]string{
+			{"a -> b %c\n ; c -> d", "", ""}, {"a -> b; c -> d %c\n ; e -> f", "", ""}, {"a -> b %c\n ;", "", ""}, {"a -> b %c\n , c", "", ""}, {"a -> b %c\n + c", "", ""}, {"a -> b %c\n (c)", "", ""}, {"a %c\n -> b", "", ""}, {"a %c\n when b -> c", "", ""}, {"a when b %c\n ; c -> d", "", ""}, {"a when b %c\n , c -> d", "", ""}, {"a when %c\n b -> c", "", ""},
+			{"a -> b %c\n end", "Clause(Args(a) Guard() Body(b))", "%cend"}, {"a -> b %c\n after", "Clause(Args(a) Guard() Body(b))", "%cafter"}, {"a -> b; %c\n d -> e %f\n -> g", `Clause(Args(a) Guard() Body(b)) Clause note"%c"(Args(d) Guard() Body(e))`, "%f->g"},
+		}},
+	} {
+		for _, row := range x.rows {
+			l := tokens(t, row[0])
+			list, at, e := x.face.call(row[0], l, 0, len(l))
+			var trees []string
+			for _, n := range list {
+				trees = append(trees, spell(n))
+			}
+			left := ""
+			for k := at; k < len(l) && e == api.OK; k++ {
+				left += l[k].Text
+			}
+			if got := strings.Join(trees, " "); got != row[1] || left != row[2] || (e == api.OK) != (row[1] != "") || e != api.OK && (e != api.ErrForm || at != 0) {
+				t.Errorf("%s of %q: %s, left %q, %d %d; want %s, left %q", x.name, row[0], got, left, at, e, row[1], row[2])
+			}
+		}
+	}
 }
 
 // 13.3 Body, 13.4 Clauses, and Expr: from one place up to another one.
@@ -304,6 +346,22 @@ func holdRead(t *testing.T, f face, s string, l []api.Token, most int, k known) 
 	}
 }
 
+// holdBehind holds what the call answers where behind the tokens l stand comments with which no item begins, and x: it is wrong, if x may come next behind l; else the comments, and x, are none of what is read.
+func holdBehind(t *testing.T, f face, l []api.Token, x api.Token, k known, blanks []string) {
+	t.Helper()
+	comment := api.Token{Kind: api.TComment, Text: "%z"}
+	if k.goesOn(comment) || x.Kind == api.TComment {
+		return
+	}
+	if k.goesOn(x) {
+		k = known{}
+	}
+	for _, between := range [][]api.Token{{comment}, {comment, comment}} {
+		s, ll := laid(append(slices.Concat(l, between), x), blanks)
+		holdRead(t, f, s, ll, len(l), k)
+	}
+}
+
 // laid are the tokens of those kinds and texts, one behind the other in a text with those blanks ahead of each.
 func laid(l []api.Token, blanks []string) (string, []api.Token) {
 	var b strings.Builder
@@ -354,6 +412,7 @@ func holdAll(t *testing.T, f face, of []api.Token, most int) {
 		s, ll := laid(l, blanks)
 		k := know(f, s, ll)
 		for _, x := range of {
+			holdBehind(t, f, l, x, k, blanks)
 			longer := append(slices.Clip(l), x)
 			if !k.goesOn(x) {
 				s, ll := laid(longer, blanks)
@@ -431,6 +490,8 @@ func holdWalk(t *testing.T, r *rand.Rand, f face, most int) (ended bool) {
 		k := know(f, s, ll)
 		holdRead(t, f, s, ll, len(ll), k)
 		for range 5 {
+			holdBehind(t, f, l, of[r.Intn(len(of))], k, blanks)
+			holdBehind(t, f, l, k.chosen(r, of, false), k, blanks)
 			if x := of[r.Intn(len(of))]; !k.goesOn(x) {
 				s, ll := laid(append(slices.Clip(l), x), blanks)
 				holdRead(t, f, s, ll, len(l), k)
@@ -525,35 +586,119 @@ func TestKinds(t *testing.T) {
 	}
 }
 
-// 13.1 to 13.4: as deep as a text can be, and deeper than any text.
-func TestGreat(t *testing.T) {
-	defer debug.SetMaxStack(debug.SetMaxStack(1 << 27))
-	for _, x := range [][3]string{
-		{"(", "a", ")"}, {"{", "", "}"}, {"[", "a", "]"}, {"<<", "", ">>"}, {"#{", "", "}"}, {"#r{", "", "}"}, {"f(", "", ")"}, {"a:(", "b", ")"}, {"<<(", "a", ")>>"}, {"[a|", "b", "]"}, {"[a||", "b", "]"}, {"a#{", "", "}"}, {"a#r{", "", "}"},
-		{"- ", "a", ""}, {"not ", "a", ""}, {"catch ", "a", ""}, {"a=", "b", ""}, {"a++", "b", ""}, {"a::", "b", ""}, {"", "a", "+b"}, {"", "a", "(b)"}, {"", "a", "#{}"}, {"", "a", "#r.f"},
-		{"begin ", "a", " end"}, {"case ", "a", " of a->b end"}, {"case a of b->", "c", " end"}, {"if a->", "b", " end"}, {"if ", "a", "->b end"}, {"receive ", "a", "->b end"}, {"receive after a->", "b", " end"}, {"fun()->", "a", " end"}, {"fun(", "a", ")->b end"}, {"{a,", "b", "}"},
-	} {
-		most := (api.MaxBytes - len(x[1])) / (len(x[0]) + len(x[2]))
-		s := strings.Repeat(x[0], most) + x[1] + strings.Repeat(x[2], most)
-		l := tokens(t, s)
-		n, at, e := Expr(s, l, 0, len(l), 0)
-		if count := tree.Count(n); e != api.OK || at != len(l) || x[0] != "(" && count < most {
-			t.Error(x, at, e, count)
+// kinds are all that may hold their own kind: what begins one, what stands in the last one, and what ends one.
+func kinds() [][3]string {
+	return [][3]string{
+		{"(", "a", ")"}, {"{", "", "}"}, {"[", "a", "]"}, {"<<", "", ">>"}, {"#{", "", "}"}, {"#r{", "", "}"}, {"f(", "", ")"}, {"a:(", "b", ")"}, {"<<(", "a", ")>>"}, {"<<(", "a", "):8>>"}, {"[a|", "b", "]"}, {"[a||", "b", "]"}, {"[a||b<-", "c", "]"}, {"[", "a", "||b]"}, {"a#{", "", "}"}, {"a#r{", "", "}"}, {"#{a=>", "b", "}"}, {"{a,", "b", "}"}, {"{", "a", ",b}"}, {"{%c\n", "", "%d\n}"},
+		{"- ", "a", ""}, {"not ", "a", ""}, {"catch ", "a", ""}, {"a=", "b", ""}, {"a++", "b", ""}, {"a::", "b", ""}, {"", "a", "+b"}, {"", "a", "(b)"}, {"", "a", "#{}"}, {"", "a", "#r{}"}, {"", "a", "#r.f"}, {"(", "a", "):b"}, {"-(", "a", ")"}, {"catch(", "a", ")"},
+		{"begin ", "a", " end"}, {"case ", "a", " of a->b end"}, {"case a of ", "b", "->c end"}, {"case a of b when ", "c", "->d end"}, {"case a of b->", "c", " end"}, {"if a->", "b", " end"}, {"if ", "a", "->b end"}, {"receive ", "a", "->b end"}, {"receive a->", "b", " end"}, {"receive after ", "a", "->b end"}, {"receive after a->", "b", " end"}, {"fun()->", "a", " end"}, {"fun(", "a", ")->b end"}, {"fun()when ", "a", "->b end"},
+	}
+}
+
+// nest is a text of that many of a kind, one in the other, and its tokens; it may be longer than any that scan takes.
+func nest(t *testing.T, kind [3]string, deep int) (string, []api.Token) {
+	t.Helper()
+	var l []api.Token
+	at := 0
+	add := func(s string, times int) {
+		one := tokens(t, s)
+		for range times {
+			for _, x := range one {
+				x.At += at
+				l = append(l, x)
+			}
+			at += len(s)
 		}
-		s = strings.Repeat(x[0]+x[1], api.MaxBytes/len(x[0]+x[1]))
-		l = tokens(t, s)
-		n, at, e = Expr(s, l, 0, len(l), 0)
-		if e != api.OK && (e != api.ErrForm || at != 0 || !reflect.DeepEqual(n, api.Node{})) {
+	}
+	add(kind[0], deep)
+	add(kind[1], 1)
+	add(kind[2], deep)
+	return strings.Repeat(kind[0], deep) + kind[1] + strings.Repeat(kind[2], deep), l
+}
+
+// 13.1 to 13.4: nests of any depth, as nothing names one; they do not stand in the stack of calls, which would end.
+func TestGreat(t *testing.T) {
+	defer debug.SetMaxStack(debug.SetMaxStack(1 << 20))
+	for _, x := range kinds() {
+		counts := map[int]int{}
+		for _, deep := range []int{1, 2, 100, 70000} {
+			s, l := nest(t, x, deep)
+			n, at, e := Expr(s, l, 0, len(l), 0)
+			counts[deep] = tree.Count(n)
+			if want := counts[1] + (deep-1)*(counts[2]-counts[1]); e != api.OK || at != len(l) || deep > 2 && counts[deep] != want {
+				t.Error("Expr", x, deep, at, e, counts[deep], want)
+			}
+			if deep > 100 {
+				continue
+			}
+			body, at, e := Body(s, l, 0, len(l))
+			if e != api.OK || at != len(l) || len(body.L) != 1 || tree.Count(body) != 1+counts[deep] {
+				t.Error("Body", x, deep, at, e)
+			}
+			if x[2] == "" || x[0] == "" {
+				continue
+			}
+			if n, at, e := Expr(s, l, 0, len(l)-1, 0); e != api.ErrForm || at != 0 || n.Kind != 0 || len(n.L) != 0 {
+				t.Error("Expr, cut off", x, deep, at, e)
+			}
+		}
+		if x[0] != "(" && counts[2] == counts[1] {
+			t.Error(x, counts)
+		}
+	}
+}
+
+// 13.2 ( ): that one, however many stand around it.
+func TestGreatWithin(t *testing.T) {
+	for _, deep := range []int{65536, 65537, 70000, 300000} {
+		s, l := nest(t, [3]string{"(", "a", ")"}, deep)
+		if n, at, e := Expr(s, l, 0, len(l), 0); e != api.OK || at != 2*deep+1 || !tree.Same(n, api.Node{Kind: api.NLit, Text: "a"}) {
+			t.Error(deep, n.Kind, at, e)
+		}
+	}
+}
+
+// As many comments as operators behind which something is open: they are gone over once, not for each of these, or this would not end.
+func TestGreatComments(t *testing.T) {
+	const many = 1000000
+	s, l := nest(t, [3]string{"a = ", "b", "%c\n"}, many)
+	for _, x := range []struct {
+		sign    string
+		at, err int
+	}{{")", 2*many + 1, api.OK}, {"=", 0, api.ErrForm}} {
+		n, at, e := Expr(s, append(slices.Clip(l), api.Token{Kind: api.TSign, Text: x.sign, At: len(s)}), 0, len(l)+1, 0)
+		if at != x.at || e != x.err || tree.Count(n) != max(at, 1) {
 			t.Error(x, at, e)
 		}
 	}
-	many := make([]api.Token, 1<<21)
+}
+
+// 13.3, 13.4: nests in clauses, and many items and clauses, each with a comment; and nests that do not end.
+func TestGreatClauses(t *testing.T) {
+	defer debug.SetMaxStack(debug.SetMaxStack(1 << 20))
+	const many = 70000
+	s, l := nest(t, [3]string{"{", "", "}"}, many)
+	end := tokens(t, "-> b")
+	l = append(l, end...)
+	list, at, e := Clauses(s, l, 0, len(l))
+	if e != api.OK || at != len(l) || len(list) != 1 || tree.Count(list[0].L[0]) != 1+many {
+		t.Error(len(list), at, e)
+	}
+	s, l = nest(t, [3]string{"", "a -> b", "; %c\n a -> b"}, many)
+	if list, at, e = Clauses(s, l, 0, len(l)); e != api.OK || at != len(l) || len(list) != many+1 {
+		t.Error(len(list), at, e)
+	}
+	s, l = nest(t, [3]string{"", "a", ", %c\n a"}, many)
+	if n, at, e := Body(s, l, 0, len(l)); e != api.OK || at != len(l) || len(n.L) != many+1 {
+		t.Error(len(n.L), at, e)
+	}
+	open := make([]api.Token, 1<<17)
 	for _, text := range []string{"(", "{", "[", "<<", "#", "-", "+"} {
-		for k := range many {
-			many[k] = api.Token{Kind: api.TSign, Text: text}
+		for k := range open {
+			open[k] = api.Token{Kind: api.TSign, Text: text}
 		}
 		for _, call := range []face{exprFace(0), bodyFace(), clausesFace()} {
-			if _, at, e := call.call("", many, 0, len(many)); at != 0 || e != api.ErrForm {
+			if list, at, e := call.call("", open, 0, len(open)); len(list) != 0 || at != 0 || e != api.ErrForm {
 				t.Error(text, at, e)
 			}
 		}

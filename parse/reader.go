@@ -8,31 +8,59 @@ import (
 	"galley/gap"
 )
 
-// reader reads tokens one after the other. Its methods are called where what they read begins, and leave it behind that; they panic where it does not go on so. None of them reads over a comment but notes. They answer nodes by pointers: a text may nest as deep as it is long, and nodes themselves would fill the stack of calls.
+// reader reads tokens one after the other, by steps: a step reads what is next, leaves in n what it has read, and panics where it does not go on so. What may hold its own kind is not read by a step itself, but planned: what is still to be done stands in a list, not in the stack of calls, as nests may be as deep as there are tokens.
 type reader struct {
 	s    string
 	l    []api.Token // up to where it may read
-	at   int         // which token is the next one
-	deep int         // how many things are being read, one within the other, of those that may hold their own kind
+	at   int         // which token is to be read next, be it a comment
+	past int         // no token from at up to it is anything but a comment
+	todo []func()    // steps that are still to be done, the last one first
+	n    *api.Node   // what was read last
 }
 
-// in is called where something begins that may hold its own kind. The tokens of a text are not as many as would be refused here; a list that is none of a text's must not use up the stack of calls.
-func (r *reader) in() {
-	r.deep++
-	must(r.deep <= api.MaxBytes+1)
-}
-
-// out is called where something ends that may hold its own kind.
-func (r *reader) out() {
-	r.deep--
-}
-
-// next is the next token; behind the last one it is none, and of no kind.
-func (r *reader) next() api.Token {
-	if r.at < len(r.l) {
-		return r.l[r.at]
+// plan has the steps done in their order, ahead of all that was planned before.
+func (r *reader) plan(steps ...func()) {
+	for k := len(steps) - 1; k >= 0; k-- {
+		r.todo = append(r.todo, steps[k])
 	}
-	return api.Token{}
+}
+
+// run does what is planned, and what is planned by that, until nothing is left.
+func (r *reader) run() {
+again:
+	if last := len(r.todo) - 1; last >= 0 {
+		step := r.todo[last]
+		r.todo = r.todo[:last]
+		step()
+		goto again
+	}
+}
+
+// next is the next token that is no comment: comments are not looked at. Behind the last one it is none, and of no kind.
+func (r *reader) next() api.Token {
+	// It goes on from where it was the last time: all that is open may ask it at one place.
+	r.past = max(r.past, r.at)
+again:
+	if r.past == len(r.l) {
+		return api.Token{}
+	}
+	if r.l[r.past].Kind == api.TComment {
+		r.past++
+		goto again
+	}
+	return r.l[r.past]
+}
+
+// near tells whether no comment stands ahead of the next token.
+func (r *reader) near() bool {
+	r.next()
+	return r.past == r.at
+}
+
+// take reads the next token. No comment may stand ahead of it: those that may are read by notes.
+func (r *reader) take() {
+	must(r.near())
+	r.at++
 }
 
 // sees tells whether the next token is that sign.
@@ -45,17 +73,22 @@ func (r *reader) sees(text string) bool {
 func (r *reader) sign(text string) bool {
 	seen := r.sees(text)
 	if seen {
-		r.at++
+		r.take()
 	}
 	return seen
 }
 
+// comes tells whether the next token is that reserved word.
+func (r *reader) comes(text string) bool {
+	t := r.next()
+	return t.Kind == api.TWord && t.Text == text
+}
+
 // word reads that reserved word, and tells whether it was there.
 func (r *reader) word(text string) bool {
-	t := r.next()
-	seen := t.Kind == api.TWord && t.Text == text
+	seen := r.comes(text)
 	if seen {
-		r.at++
+		r.take()
 	}
 	return seen
 }
@@ -64,7 +97,7 @@ func (r *reader) word(text string) bool {
 func (r *reader) text(kinds ...int) string {
 	t := r.next()
 	must(slices.Contains(kinds, t.Kind))
-	r.at++
+	r.take()
 	return strings.Clone(t.Text)
 }
 
@@ -87,41 +120,24 @@ func (r *reader) since(from int) string {
 	return b.String()
 }
 
-// notes reads the comments that are next.
+// notes reads the comments ahead of the next token.
 func (r *reader) notes() []string {
 	var list []string
-	for r.next().Kind == api.TComment {
-		list = append(list, r.text(api.TComment))
+again:
+	if !r.near() {
+		list = append(list, strings.Clone(r.l[r.at].Text))
+		r.at++
+		goto again
 	}
 	return list
 }
 
-// comes tells whether that reserved word is the next token that is no comment; it reads nothing.
-func (r *reader) comes(text string) bool {
-	from := r.at
-	r.notes()
-	seen := r.word(text)
-	r.at = from
-	return seen
-}
-
-// broken tells whether a line ends ahead of the next token, be it a comment.
+// broken tells whether a line ends ahead of what is to be read next, be it a comment.
 func (r *reader) broken() bool {
 	return gap.Broken(r.s, r.l, r.at)
 }
 
-// blank tells whether a blank line stands ahead of the next token, be it a comment.
+// blank tells whether a blank line stands ahead of what is to be read next, be it a comment.
 func (r *reader) blank() bool {
 	return gap.Blank(r.s, r.l, r.at)
-}
-
-// row reads things with that sign between, at least one of them.
-func (r *reader) row(between string, one func() *api.Node) []api.Node {
-	var list []api.Node
-next:
-	list = append(list, *one())
-	if r.sign(between) {
-		goto next
-	}
-	return list
 }
