@@ -365,6 +365,7 @@ func TestMany(t *testing.T) {
 	for k := range many {
 		many[k] = line
 	}
+	cat := func(l ...api.Doc) api.Doc { return api.Doc{Kind: api.DCat, L: slices.Clone(l)} }
 	group := api.Doc{Kind: api.DGroup, L: many[:1000]}
 	groups := slices.Repeat([]api.Doc{group}, 1998) // 1,999,998 parts
 	for _, x := range []struct {
@@ -373,13 +374,13 @@ func TestMany(t *testing.T) {
 		count int
 		may   bool
 	}{
-		{"one fewer", Cat(many[2:]...), most - 1, true},
-		{"as many as may be", Cat(many[1:]...), most, true},
-		{"one more", Cat(many...), most + 1, false},
-		{"in groups", Cat(append(groups, line)...), most, true},
-		{"in groups, one more", Cat(append(groups, line, line)...), most + 1, false},
-		{"in groups, one more deep down", Cat(append(groups, Cat(line))...), most + 1, false},
-		{"far more", Group(Cat(many...), Cat(many...)), 2*most + 3, false},
+		{"one fewer", cat(many[2:]...), most - 1, true},
+		{"as many as may be", cat(many[1:]...), most, true},
+		{"one more", cat(many...), most + 1, false},
+		{"in groups", cat(append(groups, line)...), most, true},
+		{"in groups, one more", cat(append(groups, line, line)...), most + 1, false},
+		{"in groups, one more deep down", cat(append(groups, Cat(line))...), most + 1, false},
+		{"far more", cat(Cat(many...), Cat(many...)), 2*most + 3, false},
 	} {
 		t.Run(x.name, func(t *testing.T) {
 			if n := Count(x.d); n != x.count || May(x.d) != x.may || Forced(x.d) {
@@ -401,12 +402,13 @@ func TestMany(t *testing.T) {
 func TestTooMany(t *testing.T) {
 	d := Text("a")
 	for range 60 {
-		d = Cat(d, d)
+		d = api.Doc{Kind: api.DCat, L: []api.Doc{d, d}}
 	}
-	if May(d) || May(Nest(4, line, d)) {
+	nest := api.Doc{Kind: api.DNest, N: 4, L: []api.Doc{line, d}}
+	if May(d) || May(nest) {
 		t.Error("2^60 texts may be")
 	}
-	if x := Cat(hard, d); !Forced(x) || May(x) {
+	if x := (api.Doc{Kind: api.DCat, L: []api.Doc{hard, d}}); !Forced(x) || May(x) {
 		t.Error("a newline ahead")
 	}
 }
@@ -425,32 +427,28 @@ func TestGreat(t *testing.T) {
 	}
 }
 
-// 15.1 the makers: from the inside out as deep as may be, and beyond, in no more time than that takes.
+// 15.1 the makers: what is made from the inside out is as it is said, at each step.
 func TestInsideOut(t *testing.T) {
-	defer debug.SetMaxStack(debug.SetMaxStack(1 << 20))
 	for _, x := range []struct {
-		name         string
-		step         func(d api.Doc) api.Doc
-		parts, steps int
-		forced       bool
+		name   string
+		step   func(d api.Doc) api.Doc
+		parts  int
+		forced bool
 	}{
-		{"Cat", func(d api.Doc) api.Doc { return Cat(d) }, 1, 199999, false},
-		{"Nest", func(d api.Doc) api.Doc { return Nest(4, d) }, 1, 199999, false},
-		{"Group", func(d api.Doc) api.Doc { return Group(d) }, 1, 199999, false},
-		{"Broken", func(d api.Doc) api.Doc { return Broken(d) }, 1, 199999, true},
-		{"a row", func(d api.Doc) api.Doc { return Group(d, Nest(4, Text(" +"), line, Text("b"))) }, 5, 199998, false},
-		{"a row to the right", func(d api.Doc) api.Doc { return Group(Text("b"), Nest(4, Text(" ++"), line, d)) }, 5, 99999, false},
+		{"Cat", func(d api.Doc) api.Doc { return Cat(d) }, 1, false},
+		{"Nest", func(d api.Doc) api.Doc { return Nest(4, d) }, 1, false},
+		{"Group", func(d api.Doc) api.Doc { return Group(d) }, 1, false},
+		{"Broken", func(d api.Doc) api.Doc { return Broken(d) }, 1, true},
+		{"a row", func(d api.Doc) api.Doc { return Group(d, Nest(4, Text(" +"), line, Text("b"))) }, 5, false},
+		{"a row to the right", func(d api.Doc) api.Doc { return Group(Text("b"), Nest(4, Text(" ++"), line, d)) }, 5, false},
 	} {
 		t.Run(x.name, func(t *testing.T) {
 			d := Text("a")
-			for range x.steps {
+			for k := range 1000 {
 				d = x.step(d)
-			}
-			if !May(d) || Forced(d) != x.forced || Count(d) != x.parts*x.steps+1 {
-				t.Error(asked(d))
-			}
-			if May(x.step(d)) {
-				t.Error("deeper")
+				if !May(d) || Forced(d) != x.forced || Count(d) != x.parts*(k+1)+1 {
+					t.Fatal(k, asked(d))
+				}
 			}
 		})
 	}
@@ -515,42 +513,96 @@ func TestOwn(t *testing.T) {
 	}
 }
 
-// Rule 2: the list alone is copied where a part in it has very many; what is handed in is not changed.
+// Rule 2, rule 7 of LANGUAGE.md: what is written into an answer is written into nothing else, however many parts there are and however they stand.
 func TestOwnGreat(t *testing.T) {
-	great := api.Doc{Kind: api.DCat, L: slices.Repeat([]api.Doc{line}, 1000)}
-	for _, x := range makers {
-		t.Run(x.name, func(t *testing.T) {
-			l := []api.Doc{Cat(soft), great, Cat(soft)}
-			d := x.make(l...)
-			for k := range l {
-				if k != 1 {
-					l[k].L[0] = hard
+	for _, n := range []int{1, 2, 3, 255, 256, 257, 300, 600} {
+		for name, d := range map[string]api.Doc{
+			"wide":  {Kind: api.DCat, L: slices.Repeat([]api.Doc{Text("a")}, n)},
+			"deep":  chain(n, api.DNest, Text("a")),
+			"a row": chain(n, api.DGroup, Text("a"), Text("b"), line),
+			"lists": {Kind: api.DGroup, L: slices.Repeat([]api.Doc{Cat(Text("a"), Cat(), soft)}, n)},
+		} {
+			for _, x := range makers {
+				handed := api.Doc{L: append(make([]api.Doc, 0, 8), d, d)}
+				y, before := x.make(handed.L...), spell(d)
+				if spell(api.Doc{L: y.L}) != spell(handed) {
+					t.Fatalf("%s of %d, %s: not the same", x.name, n, name)
 				}
-				l[k] = api.Doc{}
+				if at := alike(t, &y, &handed); at != "" {
+					t.Fatalf("%s of %d, %s: %s", x.name, n, name, at)
+				}
+				for _, part := range inside(&y.L[1]) {
+					*part = api.Doc{}
+				}
+				if spell(d) != before || spell(y.L[0]) != before {
+					t.Fatalf("%s of %d, %s: a change of one part of the answer is one of another", x.name, n, name)
+				}
 			}
-			if len(d.L) != 3 || d.L[0].Kind != api.DCat || d.L[0].L[0].Kind != api.DSoft || len(d.L[1].L) != 1000 || d.L[2].L[0].Kind != api.DSoft {
-				t.Error(asked(d))
-			}
-			if !May(great) || Count(great) != 1001 || Forced(great) {
-				t.Error(asked(great))
-			}
-		})
+		}
 	}
 }
 
-// own, left: what has few parts is copied, what has more is not counted to its end.
-func TestFew(t *testing.T) {
-	for _, n := range []int{1, 2, few - 2, few - 1, few, few + 1, 10 * few} {
-		wide := api.Doc{Kind: api.DCat, L: slices.Repeat([]api.Doc{line}, n-1)}
-		for _, d := range []api.Doc{wide, chain(n, api.DCat, line), chain(n, api.DCat, Cat())} {
-			if got := left(few, []api.Doc{d}); got != max(few-n, -1) {
-				t.Errorf("%d parts: %d", n, got)
+// alike tells of memory that two lists or texts of d share, or one of d and one of handed; "" if there is none.
+func alike(t *testing.T, d, handed *api.Doc) string {
+	t.Helper()
+	theirs, seen := map[unsafe.Pointer]bool{}, map[unsafe.Pointer]bool{}
+	for _, at := range memory(handed) {
+		theirs[at] = true
+	}
+	for _, at := range memory(d) {
+		if theirs[at] {
+			return "memory of what was handed in"
+		}
+		if seen[at] {
+			return "the same memory twice"
+		}
+		seen[at] = true
+	}
+	return ""
+}
+
+// Rule 2: what is appended to a list of an answer, an empty one too, is in nothing else.
+func TestAppend(t *testing.T) {
+	for _, x := range makers {
+		room := make([]api.Doc, 4)
+		handed := []api.Doc{Cat(line, line), {Kind: api.DCat, L: room[:0]}, {Kind: api.DCat, L: room[:1]}, Cat(soft, Group(line)), Text("a")}
+		for _, l := range [][]api.Doc{handed, handed[:0], room[1:1]} {
+			d := x.make(l...)
+			want := spell(d)
+			for _, part := range inside(&d) {
+				_ = append(part.L, hard)
+				_ = append(part.L[:len(part.L):len(part.L)], hard, hard)
 			}
-			if len(d.L) == 0 {
-				continue
+			if spell(d) != want {
+				t.Errorf("%s: %s, not %s", x.name, spell(d), want)
 			}
-			if shared := &own([]api.Doc{d})[0].L[0] == &d.L[0]; shared != (n > few) {
-				t.Errorf("%d parts: shared: %v", n, shared)
+		}
+		if spell(api.Doc{L: room}) != spell(api.Doc{L: make([]api.Doc, 4)}) || handed[0].Kind != api.DCat {
+			t.Errorf("%s: what is appended is in what was handed in", x.name)
+		}
+	}
+}
+
+// Rules 1 and 2: the makers of what is deeper than calls can go; what they are given stays, and what they answer.
+func TestOwnDeep(t *testing.T) {
+	defer debug.SetMaxStack(debug.SetMaxStack(1 << 20))
+	for _, deep := range []int{199999, 200000, 300000} {
+		for _, x := range makers {
+			handed := chain(deep, api.DCat, Text("a"), line)
+			d := x.make(handed)
+			if n := Count(d); n != 2*deep || May(d) != (deep < 200000) {
+				t.Fatalf("%s: %d deep: %d parts", x.name, deep, n)
+			}
+			theirs, ours := &handed, &d.L[0]
+			for len(ours.L) > 0 {
+				if &ours.L[0] == &theirs.L[0] {
+					t.Fatalf("%s: %d deep: the same list", x.name, deep)
+				}
+				theirs, ours = &theirs.L[1], &ours.L[1]
+				ours.N = 1
+			}
+			if !May(handed) != (deep > 200000) {
+				t.Errorf("%s: %d deep: what was handed in is changed", x.name, deep)
 			}
 		}
 	}
